@@ -1,0 +1,1 @@
+"""Disposehall: a house that keeps records so long and no longer."""
