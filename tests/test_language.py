@@ -63,6 +63,10 @@ def is_docstring(node):
     return isinstance(node, ast.Expr) and isinstance(node.value, ast.Constant) and isinstance(node.value.value, str)
 
 
+def called(node):
+    return node.func.attr if isinstance(node.func, ast.Attribute) else getattr(node.func, "id", None)
+
+
 def is_plain(node):
     if isinstance(node, ast.Constant):
         return node.value is None or isinstance(node.value, (bool, int, str))
@@ -249,6 +253,71 @@ class CodeTest(unittest.TestCase):
             if isinstance(node.func, ast.Attribute):
                 self.assertIn(node.func.attr, OWN_METHODS | methods)
         self.each(ast.Call, check)
+
+    def test_what_is_walked_is_walked_on_the_spot(self):
+        walked = {"zip", "enumerate", "reversed", "range", "items", "keys", "values"}
+        walkers = {"list", "tuple", "dict", "sorted", "sum", "any", "all", "enumerate", "zip"}
+        for stem, tree in trees().items():
+            allowed = []
+            for node in ast.walk(tree):
+                if isinstance(node, (ast.For, ast.comprehension)):
+                    allowed.append(node.iter)
+                elif isinstance(node, ast.Call):
+                    name = called(node)
+                    if name == "zip":
+                        allowed.extend(node.args)
+                    elif name in walkers or (name in ("min", "max") and len(node.args) == 1):
+                        allowed.extend(node.args[:1])
+            for node in ast.walk(tree):
+                if isinstance(node, ast.Call) and called(node) in walked:
+                    with self.subTest(file=stem, row=node.lineno):
+                        self.assertIn(node, allowed)
+
+    def test_what_a_loop_walks_is_not_changed_in_it(self):
+        changes = {"append", "clear", "extend", "insert", "pop", "remove", "reverse", "setdefault", "update"}
+        def check(tree, loop):
+            walked = {node.id for node in ast.walk(loop.iter) if isinstance(node, ast.Name)}
+            if isinstance(loop.iter, ast.Call) and called(loop.iter) in ("list", "sorted"):
+                return
+            for node in [inner for one in loop.body for inner in ast.walk(one)]:
+                if isinstance(node, ast.Call) and isinstance(node.func, ast.Attribute) and node.func.attr in changes:
+                    self.assertNotIn(getattr(node.func.value, "id", None), walked)
+                if isinstance(node, ast.Subscript) and isinstance(node.ctx, ast.Store):
+                    self.assertNotIn(getattr(node.value, "id", None), walked)
+        self.each(ast.For, check)
+
+    def test_keywords_of_pythons_own(self):
+        known = {"sorted": {"key", "reverse"}, "min": {"key", "default"}, "max": {"key", "default"}, "sum": {"start"},
+                 "enumerate": {"start"}, "zip": {"strict"}}
+        def check(tree, node):
+            if called(node) in OWN_NAMES | OWN_METHODS:
+                self.assertLessEqual({keyword.arg for keyword in node.keywords}, known.get(called(node), set()))
+        self.each(ast.Call, check)
+
+    def test_sets_are_not_kept(self):
+        """Narrower than it need be: the program does without sets."""
+        def check(tree, node):
+            self.assertNotIsInstance(node, ast.Set)
+            if isinstance(node, ast.Name):
+                self.assertNotIn(node.id, ("set", "frozenset"))
+        self.each(ast.expr, check)
+
+    def test_pythons_own_functions_are_called_where_they_stand(self):
+        def check(tree, node):
+            names = [one.func for one in ast.walk(node) if isinstance(one, ast.Call)]
+            names += [word.value for one in ast.walk(node) if isinstance(one, ast.Call) for word in one.keywords]
+            names += [one.args[1] for one in ast.walk(node) if isinstance(one, ast.Call) and called(one) == "isinstance"]
+            for one in ast.walk(node):
+                if isinstance(one, ast.Name) and one.id in OWN_NAMES and one.id[0].islower():
+                    self.assertIn(one, names)
+        self.each(ast.FunctionDef, check)
+
+    def test_lists_and_dicts_of_the_top_are_only_read(self):
+        for stem, tree in trees().items():
+            tops = [node.targets[0].id for node in tree.body if isinstance(node, ast.Assign)
+                    and isinstance(node.value, (ast.List, ast.Dict))]
+            with self.subTest(file=stem):
+                self.assertEqual(tops, [], "narrower than it need be: the program keeps no list or dict at a top")
 
     def test_errors_are_taken_by_name(self):
         def check(tree, node):
