@@ -77,8 +77,11 @@ def term_of(book, name):
     return owning_series(book, name)[2]
 
 
+# As in line_of; the eldest of a line has a term, so the walk ends at one.
 def owning_series(book, name):
-    line = line_of(book, name)
-    owners = [series for series in book if series[0] in line and series[2] is not None]
-    # The series of a line stand in the book from the eldest on.
-    return owners[-1]
+    wanted = name
+    for series in reversed(book):
+        if series[0] == wanted and series[2] is not None:
+            return series
+        if series[0] == wanted:
+            wanted = series[1]

@@ -52,9 +52,16 @@ def life_of(rows, record):
 
 
 def holds_on(rows, record, line):
-    lifted = [row[1] for row in rows if row[0] == "lift"]
-    laid = [row[1] for row in rows if row[0] == "hold" and is_laid_on(row, record, line)]
-    return sorted([hold for hold in laid if hold not in lifted])
+    return sorted([row[1] for row in standing(rows) if is_laid_on(row, record, line)])
+
+
+# The holds among the rows of which no lift stands among them.
+def standing(rows):
+    lifted = {}
+    for row in rows:
+        if row[0] == "lift":
+            lifted[row[1]] = True
+    return [row for row in rows if row[0] == "hold" and row[1] not in lifted]
 
 
 def is_laid_on(row, record, line):

@@ -254,6 +254,27 @@ class CodeTest(unittest.TestCase):
                 self.assertIn(node.func.attr, OWN_METHODS | methods)
         self.each(ast.Call, check)
 
+    def test_own_methods_and_values_are_not_called_like_those_of_pythons_own(self):
+        known = {name for kind in (str, int, list, tuple, dict, set, bytes, Exception) for name in dir(kind)}
+        free_values = set("count index title find get join lower upper split strip copy add".split())
+        def check(tree, node):
+            if isinstance(node, ast.ClassDef):
+                names = {one.name for one in node.body if isinstance(one, ast.FunctionDef)}
+                self.assertEqual(names & known - OWN_METHODS - DUNDER_METHODS - {"add", "discard"}, set())
+            elif isinstance(node.ctx, ast.Store):
+                self.assertIsInstance(node.value, ast.Name)
+                self.assertNotIn(node.value.id, bound_at_top(tree))
+                self.assertNotIn(node.attr, (known | {"sort", "args", "encode", "format"}) - free_values)
+        self.each((ast.ClassDef, ast.Attribute), check)
+
+    def test_methods_with_two_underscores_give_back_nothing(self):
+        """Narrower than it need be: of these methods the program has `__init__` alone."""
+        def check(tree, node):
+            if node.name.startswith("__"):
+                self.assertEqual(node.name, "__init__")
+                self.assertEqual([one for one in ast.walk(node) if isinstance(one, ast.Return)], [])
+        self.each(ast.FunctionDef, check)
+
     def test_what_is_walked_is_walked_on_the_spot(self):
         walked = {"zip", "enumerate", "reversed", "range", "items", "keys", "values"}
         walkers = {"list", "tuple", "dict", "sorted", "sum", "any", "all", "enumerate", "zip"}
