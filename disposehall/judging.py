@@ -52,7 +52,11 @@ def life_of(rows, record):
 
 
 def holds_on(rows, record, line):
-    return sorted([row[1] for row in standing(rows) if is_laid_on(row, record, line)])
+    # A dict, since many holds may be looked up in a long line.
+    over = {}
+    for name in line:
+        over[name] = True
+    return sorted([row[1] for row in standing(rows) if is_laid_on(row, record, over)])
 
 
 # The holds among the rows of which no lift stands among them.
@@ -64,10 +68,11 @@ def standing(rows):
     return [row for row in rows if row[0] == "hold" and row[1] not in lifted]
 
 
-def is_laid_on(row, record, line):
+# Over a record are the series of its series' line.
+def is_laid_on(row, record, over):
     if row[2] == "record":
         return row[3] == record
-    return row[3] in line
+    return row[3] in over
 
 
 def word_for(due, holds, day):
